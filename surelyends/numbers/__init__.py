@@ -1,0 +1,1 @@
+"""Fractions and rows of fractions."""

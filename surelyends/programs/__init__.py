@@ -1,0 +1,1 @@
+"""Programs and their texts."""
