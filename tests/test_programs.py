@@ -39,7 +39,8 @@ WRONG_STATEMENTS = (
     ("again", 0, 1, ()), ("again", 1, 0, ()), ("again", 100, 1, ()), ("again", 1, 100, ()), ("again", True, 1, ()),
     ("again", 1, True, ()), ("again", 1, 1, []), ("again", 1, 1, NOTE), ("again", 1, 1, (), ()), ("again", (1, 1, ())),
     ("choose", ()), ("choose",), ("choose", (), (), (), ()), ("choose", (), []), ("choose", (), NOTE),
-    ("choose", [(), ()]), ("choose", (), 1), ["note", "a"], {"note": "a"}, "note", None, 5, True,
+    ("choose", [(), ()]), ("choose", (), 1), ("Toss", (1, ()), (1, ())), ("coin", (1, ()), (1, ())), ("repeat", 1, 1, ()),
+    ("choice", (), ()), ("notes", "a"), ("calls", "x"), ("", (1, ()), (1, ())), ["note", "a"], {"note": "a"}, "note", None, 5, True,
 )
 
 

@@ -96,11 +96,7 @@ def is_fraction(value):
 
 def as_fraction(value):
     """The Fraction that is equal to a fraction."""
-    if isinstance(value, Fraction):
-        return value
-    if not is_plain_integer(value):
-        raise InvalidFraction("neither a Fraction nor an integer")
-    return Fraction(value)
+    return value if isinstance(value, Fraction) else Fraction(value)
 
 
 def is_fractions(value):

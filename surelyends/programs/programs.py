@@ -97,7 +97,7 @@ class Program:
 
     def __init__(self, **bodies):
         given = bodies.get("_given")
-        table = given.table if len(bodies) == 1 and isinstance(given, Given) else bodies
+        table = given.table if isinstance(given, Given) else bodies
         if not _are_program(table):
             raise InvalidProgram("these are not the procedures of a program")
         self._bodies = {name: table[name] for name in sorted(table)}
