@@ -1,6 +1,7 @@
 """What several tests share: strange values, drawn programs, and a run that is written out once more."""
 
 import fractions
+import math
 
 from surelyends.errors import InvalidProgram
 from surelyends.numbers.fractions import Fraction
@@ -32,7 +33,18 @@ STRANGE = (
     PAIRS, PICKS, (PAIRS,), {"x": PAIRS}, PAIRS["x"], PAIRS.bodies, PICKS.choices, Tosser(PAIRS, "x"),
     Tosser(PAIRS, "x").trial(), ended_runs(PAIRS, "x", 3), ((0,), 1, 1, ()), ("solution", (1,)), ("fit", (1,)),
     ("falling", (1,)), ("none", (1,)), ("bar", (1,)), ("kept", (1,)), ("toss", (1, ()), (1, ())), ("again", 1, 1, ()),
+    {"x": Fraction(1, 2)}, {"x": Fraction(3, 2)}, {"x": -1}, {"x": True}, {"x": 1, "y": 1}, {"a": 1}, {"a": 100}, {"a": -1},
+    {"x": {"x": Fraction(1, 2)}}, ("x", 1), (("x", 1),), (("x", Fraction(1, 2)),), (("x", 1), ("x", 1)), (("x", 1, 1),),
+    ("sure", ()), ("sure", ((),)), ("sure", ((("x", 1),),)), ("sure", ((("x", 0),),)), ("sure", (), ()), ("sure",),
+    ("unsure", ()), ("unsure", (("x", 0),)), ("unsure", (("x", Fraction(1, 2)),)), ("unsure", (("x", 1),)),
+    ("between", (), ()), ("between", (), (("x", 0, Fraction(1, 2)),)), ("between", ((("x", 1),),), (("x", 1, 1),)),
+    ("steady", (("x", 1),)), ("growing", (("x", 1),)), ("steady", ()), ("finite", ()), ("finite", (("x", 1, 1),)),
 )
+
+
+def program_of(text):
+    """A program whose lines can stand in any order."""
+    return read_program("\n".join(sorted(text.replace("= \n", "=\n").split("\n"))))
 
 
 def without_fractions():
@@ -215,3 +227,37 @@ def plain_runs(bodies, name, most):
                 further.pick(number)
                 waiting.append(further)
     return sorted(ended, key=lambda run: run.picks), many
+
+
+def drawn_small_body(draw, names):
+    """A toss between no call and some calls, with small weights, so that knots are often even."""
+    calls = tuple(("call", draw.choice(names)) for _ in range(draw.randint(0, 3)))
+    sort = draw.random()
+    if sort < 0.1:
+        return calls
+    if sort < 0.2:
+        return (("again", draw.randint(1, 3), draw.randint(1, 3), calls[:1]),)
+    more = draw.choice(((), (), (("stay",),), calls[:1], (("note", "a"),)))
+    return (("toss", (draw.randint(1, 4), more), (draw.randint(1, 2), calls + (("note", "b"),))),)
+
+
+def drawn_small_program(draw):
+    names = draw.sample(("a", "b", "c", "d", "e"), draw.randint(1, 4))
+    return Program.of({name: drawn_small_body(draw, names) for name in names})
+
+
+PRIMES = [number for number in range(2, 98) if all(number % divisor for divisor in range(2, number))]
+
+
+def edge_line(name, called, primes, above):
+    """A line of a procedure with 1 + above / (many * product of the primes) mean calls of another one.
+
+    Each toss has a prime as the sum of its weights; all shares together are many, but for the least part.
+    """
+    product = math.prod(primes)
+    weights = [above * pow(product // prime, -1, prime) % prime for prime in primes]
+    many = sum(fractions.Fraction(weight, prime) for weight, prime in zip(weights, primes))
+    many -= fractions.Fraction(above, product)
+    assert many.denominator == 1 and 1 <= many <= 100 and all(weights)
+    tosses = " ".join(f"[{weight}: {called} | {prime - weight}:]" for weight, prime in zip(weights, primes))
+    return f"{name} = {tosses}" if many == 1 else f"{name} = [{many - 1}: | 1: {tosses}]"

@@ -3,7 +3,10 @@
 import doctest
 import unittest
 
+from surelyends.chances import knots, values, weights
+from surelyends.means import means
 from surelyends.numbers import fractions, rows
+from surelyends.papers import bounds, sure, verdicts
 from surelyends.programs import programs, texts
 from surelyends.runs import runs, tosser
 
@@ -66,12 +69,84 @@ RUNS = r'''
 [['0', '1/2', '0', '0', '0', '0', '1/8'], '1/2', '5/8']
 '''
 
+VALUES_OF_PROGRAMS = r'''
+>>> half = Fraction(1, 2)
+>>> [next_values(GROWS, {"x": half})["x"] == half, str(slopes(GROWS, {"x": half})["x"]["x"]), str(within(GROWS, "x", 3)), within(GROWS, "x", 0) == 0]
+[True, '2/3', '971/2187', True]
+>>> [str(one) for one in next_values(LEAKS, {"z": 1, "x": 1}).values()]
+['1', '9/10']
+>>> loop = read_program("x = {1/2: x}")
+>>> [str(next_values(loop, {"x": half})["x"]), str(slopes(loop, {"x": half})["x"]["x"]), str(rounds_of(loop, {"x": 0}, 2)["x"]), is_values(loop, {"x": Fraction(3, 2)})]
+['1/2', '1/2', '3/7', False]
+'''
+
+KNOTS = r'''
+>>> [knots(TURNS), knots(LEAKS), reaches(LEAKS, "x"), reaches(LEAKS, "z"), knot_of(LEAKS, "x")]
+[(('x', 'y'),), (('z',), ('x',)), ('x', 'z'), ('z',), ('x',)]
+>>> [str(mean_calls(GROWS, "x")["x"]), [[str(one) for one in row] for row in mean_rows(TURNS, ("x", "y"))], str(most_calls(PICKS, "x", {"x": 1}))]
+['4/3', [['0', '1/2'], ['1/2', '0']], '1']
+'''
+
+WEIGHTS = r'''
+>>> [pace_of(PAIRS, ("x",)), pace_of(GROWS, ("x",)), pace_of(TURNS, ("x", "y")), pace_of(LEAKS, ("z",))]
+['even', 'growing', 'falling', 'falling']
+>>> loads_of(TURNS, ("x", "y"), (("x", 1), ("y", 2))) == {"x": 1, "y": Fraction(1, 2)}
+True
+>>> [is_knot_paper(TURNS, ("x", "y"), ("steady", (("x", 1), ("y", 2)))), is_knot_paper(GROWS, ("x",), ("growing", (("x", 7),)))]
+[True, True]
+>>> even_weights(read_program("x = y y\ny = [1: | 1: x]"), ("x", "y")) == (("x", 1), ("y", Fraction(1, 2)))
+True
+'''
+
+SURE = r'''
+>>> [sure_paper(GROWS, "x"), is_sure_paper(PAIRS, "x", ("sure", ((("x", 1),),))), sure_paper(TURNS, "y")[0]]
+[None, True, 'sure']
+>>> [is_sure_paper(TURNS, "x", ("sure", ((("x", 1), ("y", Fraction(1, bottom))),))) for bottom in (1, 2, 3)]
+[True, True, False]
+>>> twice = read_program("x = y y\ny = [2: | 1: y]")
+>>> one, two = ("sure", ((("y", 1),),)), ("sure", ((("x", 2), ("y", 1)),))
+>>> [sure_names(twice, two), joined_papers(twice, one, two) == ("sure", ((("y", 1),), (("x", 2),))), split_paper(twice, two) == joined_papers(twice, one, two)]
+[('x', 'y'), True, True]
+'''
+
+VERDICTS = r'''
+>>> [sure_procedures(LEAKS), sure_procedures(TURNS), is_sure(PAIRS, "x"), paper_of(GROWS, "x")[0], unsure_paper(PAIRS, "x")]
+[(), ('x', 'y'), True, 'unsure', None]
+>>> [is_unsure_paper(GROWS, "x", ("unsure", (("x", Fraction(top, 6)),))) for top in (2, 3, 4, 6)]
+[False, True, True, False]
+>>> [str(value) for name, value in next_paper(GROWS, "x", ("unsure", (("x", Fraction(2, 3)),)))[1]]
+['17/27']
+>>> is_paper(LEAKS, "x", ("unsure", (("x", Fraction(10, 11)), ("z", Fraction(9, 10)))))
+True
+'''
+
+BOUNDS = r'''
+>>> third = Fraction(1, 3)
+>>> [is_between_paper(GROWS, ("between", (), (("x", third, 2 * third),))), is_between_paper(GROWS, ("between", (), (("x", 2 * third, Fraction(3, 4)),)))]
+[True, False]
+>>> low, high = bounds(GROWS, "x", Fraction(1, 1000))
+>>> [Fraction(1, 2).is_less(low), high.is_less(Fraction(1, 2)), Fraction(1, 1000).is_less(high - low), bounds(PAIRS, "x", 1) == (1, 1)]
+[False, False, False, True]
+>>> [is_between_paper(PAIRS, ("between", ((("x", 1),),), (("x", 1, 1),))), is_between_paper(LEAKS, ("between", (), (("x", 0, Fraction(10, 11)), ("z", Fraction(9, 10), Fraction(9, 10)))))]
+[True, True]
+'''
+
+MEANS = r'''
+>>> [costs_of(TURNS, {"a": 3})["y"] == Fraction(3, 2), str(mean_of(TURNS, "x", {"a": 1})), mean_of(PAIRS, "x", {"a": 1}), means_of(LEAKS, {"a": 1})]
+[True, '1/3', None, {}]
+>>> third = Fraction(1, 3)
+>>> [is_finite_paper(TURNS, "x", {"a": 1}, ("finite", (("x", third, one), ("y", third + third, 1)))) for one in (1, 2)]
+[True, False]
+>>> [priced_of(PAIRS, "x", {"b": 5}), finite_paper(PAIRS, "x", {"b": 5}), mean_of(PAIRS, "x", {}) == 0]
+[(), ('finite', ()), True]
+'''
+
 
 class ExamplesTest(unittest.TestCase):
     def known(self):
         """All functions, classes and constants of the interface, and the five values that the examples use."""
         found = {}
-        for module in (fractions, rows, programs, texts, tosser, runs):
+        for module in (fractions, rows, programs, texts, tosser, runs, values, knots, weights, sure, verdicts, bounds, means):
             found.update({name: value for name, value in vars(module).items() if not name.startswith("_")})
         for line in VALUES.strip().split("\n"):
             exec(line.removeprefix(">>> "), found)
@@ -102,6 +177,27 @@ class ExamplesTest(unittest.TestCase):
 
     def test_runs(self):
         self.run_examples(RUNS, 2)
+
+    def test_values(self):
+        self.run_examples(VALUES_OF_PROGRAMS, 5)
+
+    def test_knots(self):
+        self.run_examples(KNOTS, 2)
+
+    def test_weights(self):
+        self.run_examples(WEIGHTS, 4)
+
+    def test_sure(self):
+        self.run_examples(SURE, 5)
+
+    def test_verdicts(self):
+        self.run_examples(VERDICTS, 4)
+
+    def test_bounds(self):
+        self.run_examples(BOUNDS, 5)
+
+    def test_means(self):
+        self.run_examples(MEANS, 4)
 
 
 if __name__ == "__main__":

@@ -1,0 +1,1 @@
+"""Chances of procedures, how they call one another, and weights of them."""

@@ -1,0 +1,1 @@
+"""Means of the prices of runs."""
