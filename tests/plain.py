@@ -4,9 +4,10 @@ They count with fractions of the standard library, and know programs only as dic
 """
 
 import fractions
+import itertools
 import math
 
-from helpers import as_python, is_integer
+from helpers import all_parts, as_own, as_python, is_integer
 from surelyends.numbers.fractions import Fraction
 
 ZERO, ONE = fractions.Fraction(0), fractions.Fraction(1)
@@ -158,6 +159,45 @@ def cost(body, prices):
     return in_the_mean(body, lambda statement: prices.get(statement[1], 0) if statement[0] == "note" else 0)
 
 
+# [9.3], [10.1]
+
+def solved(rows, totals):
+    """The only column with these totals, by fractions of the standard library, or None."""
+    lines = [list(row) + [total] for row, total in zip(rows, totals)]
+    for at in range(len(lines)):
+        lead = next((line for line in lines[at:] if line[at] != 0), None)
+        if lead is None:
+            return None
+        lines.remove(lead)
+        lead = [entry / lead[at] for entry in lead]
+        lines = [[entry - line[at] * other for entry, other in zip(line, lead)] for line in lines]
+        lines.insert(at, lead)
+    return [line[-1] for line in lines]
+
+
+def pace(bodies, knot):
+    """By other ways than the package: a falling knot has weights 1 above their loads, an even one a common factor 1."""
+    rows = [[mean_calls(bodies[name], other) for other in knot] for name in knot]
+    rest = [[(at == place) - entry for place, entry in enumerate(row)] for at, row in enumerate(rows)]
+    column = solved([[ONE * entry for entry in row] for row in rest], [ONE] * len(knot))
+    if column is not None and min(column) > 0:
+        return "falling"
+    # With 1 for the first procedure, all rows but one tell the other weights of an even knot.
+    others = solved([row[1:] for row in rest[1:]], [-row[0] for row in rest[1:]]) if len(knot) > 1 else []
+    if others is not None and all(other > 0 for other in others):
+        if sum(entry * weight for entry, weight in zip(rest[0], [1] + others)) == 0:
+            return "even"
+    return "growing"
+
+
+def is_sure(bodies, name):
+    part = {other: bodies[other] for other in reach(bodies, name)}
+    ended = able(part)
+    if any(has_stay(body) or other not in ended for other, body in part.items()):
+        return False
+    return all(pace(part, knot) != "growing" for knot in knots(part))
+
+
 # Papers
 
 def rows_of(value, width):
@@ -196,8 +236,12 @@ def is_knot_paper(bodies, knot, value):
     return False
 
 
-def layers_names(bodies, value):
-    """The set of the procedures in the layers of a sure paper, or None if they are none."""
+def layers_names(bodies, value, all_bodies=None):
+    """The set of the procedures in the layers of a sure paper, or None if they are none.
+
+    For an always paper with a list of the bodies of all fixed programs.
+    """
+    all_bodies = all_bodies or [bodies]
     if type(value) is not tuple:
         return None
     ahead = set()
@@ -206,9 +250,9 @@ def layers_names(bodies, value):
         if not rows or not set(rows) <= set(bodies) - ahead or min(column(rows).values()) <= 0:
             return None
         for name, (weight,) in rows.items():
-            if has_stay(bodies[name]) or name not in able(bodies) or not called(bodies[name]) <= ahead | set(rows):
+            if has_stay(bodies[name]) or not called(bodies[name]) <= ahead | set(rows):
                 return None
-            if load(bodies[name], column(rows)) > weight:
+            if not all(name in able(one) and load(one[name], column(rows)) <= weight for one in all_bodies):
                 return None
         ahead |= set(rows)
     return ahead
@@ -260,6 +304,123 @@ def is_finite_paper(bodies, name, prices, value):
         if weight <= 0 or load(bodies[other], weights) >= weight:
             return False
     return True
+
+
+def is_endless_paper(bodies, name, prices, value):
+    rows = rows_of(value[1], 1) if is_told(value, "endless", 2) else None
+    if not rows or not set(rows) <= set(priced(bodies, name, prices)):
+        return False
+    weights = column(rows)
+    return all(weight > 0 and load(bodies[other], weights) >= weight for other, weight in weights.items())
+
+
+# [14.2], [14.3]
+
+def mean_and_spread(body, told, prices):
+    """By a dict from names to pairs (mean, spread), in which procedures that are not priced need not stand."""
+    parts = [of_statement(statement, told, prices) for statement in body]
+    return sum((mean for mean, _ in parts), start=ZERO), sum((spread for _, spread in parts), start=ZERO)
+
+
+def of_statement(statement, told, prices):
+    if statement[0] == "note":
+        return ONE * prices.get(statement[1], 0), ZERO
+    if statement[0] == "call":
+        return told.get(statement[1], (ZERO, ZERO))
+    many = [(share, *mean_and_spread(body, told, prices)) for share, body in parts_of(statement)]
+    mean = sum(share * mean for share, mean, _ in many)
+    if statement[0] == "toss":
+        return mean, sum(share * spread for share, _, spread in many) + sum(share * one ** 2 for share, one, _ in many) - mean ** 2
+    rounds, one, spread = many[0]
+    return mean, spread * rounds + one ** 2 * (rounds + rounds ** 2)
+
+
+def is_spread_paper(bodies, name, prices, value):
+    rows = rows_of(value[1], 3) if is_told(value, "spread", 2) else None
+    if rows is None:
+        return False
+    finite = tuple((other, as_own(row[0]), as_own(row[2])) for other, row in rows.items())
+    if not is_finite_paper(bodies, name, prices, ("finite", finite)):
+        return False
+    told = {other: (row[0], row[1]) for other, row in rows.items()}
+    return all(mean_and_spread(bodies[other], told, prices)[1] == row[1] for other, row in rows.items())
+
+
+# [15.1]
+
+def dialled(body, path, branch, share):
+    """The body with other weights, which are fractions, at the statement on this path."""
+    at, *further = path
+    statement = body[at]
+    if further:
+        inner = list(bodies_of(statement))
+        inner[further[0]] = dialled(inner[further[0]], further[1:], branch, share)
+        changed = with_bodies(statement, inner)
+    elif statement[0] == "again":
+        changed = ("again", 1 - share, share, statement[3])
+    else:
+        rest = sum(weight for number, (weight, _) in enumerate(statement[1:]) if number != branch)
+        changed = ("toss",) + tuple(
+            (share if number == branch else (1 - share) * weight / rest, part)
+            for number, (weight, part) in enumerate(statement[1:]))
+    return body[:at] + (changed,) + body[at + 1:]
+
+
+def bodies_of(statement):
+    return [part for _, part in parts_of(statement)]
+
+
+def with_bodies(statement, inner):
+    if statement[0] == "toss":
+        return ("toss",) + tuple((weight, part) for (weight, _), part in zip(statement[1:], inner))
+    return statement[:3] + tuple(inner) if statement[0] == "again" else ("choose",) + tuple(inner)
+
+
+# [16.1], [16.2]
+
+def choices(bodies):
+    return [(name, path) for name in sorted(bodies) for path, part in all_parts(bodies[name])
+            if type(part) is tuple and part[:1] == ("choose",)]
+
+
+def fixed(bodies, plan):
+    return {name: fixed_body(body, plan, name, ()) for name, body in bodies.items()}
+
+
+def fixed_body(body, plan, name, path):
+    found = []
+    for number, statement in enumerate(body):
+        at = path + (number,)
+        inner = [fixed_body(part, plan, name, at + (one,)) for one, part in enumerate(bodies_of(statement))]
+        if statement[0] == "choose":
+            found += inner[plan[name, at]]
+        else:
+            found.append(with_bodies(statement, inner) if inner else statement)
+    return tuple(found)
+
+
+def all_plans(bodies):
+    places = choices(bodies)
+    many = [len(part_at(bodies, place)) - 1 for place in places]
+    return [dict(zip(places, numbers)) for numbers in itertools.product(*map(range, many))]
+
+
+def part_at(bodies, place):
+    return dict(all_parts(bodies[place[0]]))[place[1]]
+
+
+def is_always_paper(bodies, name, value):
+    all_bodies = [fixed(bodies, plan) for plan in all_plans(bodies)]
+    if is_told(value, "always", 2):
+        names = layers_names(bodies, value[1], all_bodies)
+        return names is not None and name in names
+    if not is_told(value, "spoilt", 3) or type(value[1]) is not tuple:
+        return False
+    for number, plan in enumerate(all_plans(bodies)):
+        # As texts, integers differ from fractions and from True.
+        if repr(tuple(plan.items())) == repr(value[1]):
+            return is_unsure_paper(all_bodies[number], name, ("unsure", value[2]))
+    return False
 
 
 # Values that are nearly papers

@@ -4,7 +4,9 @@ import doctest
 import unittest
 
 from surelyends.chances import knots, values, weights
-from surelyends.means import means
+from surelyends.change import edges, stops
+from surelyends.choices import choices
+from surelyends.means import endless, means
 from surelyends.numbers import fractions, rows
 from surelyends.papers import bounds, sure, verdicts
 from surelyends.programs import programs, texts
@@ -141,12 +143,55 @@ MEANS = r'''
 [(), ('finite', ()), True]
 '''
 
+ENDLESS = r'''
+>>> [is_endless_paper(PAIRS, "x", {"a": 7}, ("endless", (("x", 5),))), mean_paper(PAIRS, "x", {"a": 7})[0], mean_paper(PAIRS, "x", {"b": 7}), endless_paper(TURNS, "y", {"a": 1})]
+[True, 'endless', ('finite', ()), None]
+>>> twice = read_program("x = !a [2: | 1: x x]")
+>>> [str(spread_of(twice, "x", {"a": 1})), str(spread_of(twice, "x", {"a": 2})), is_spread_paper(twice, "x", {"a": 1}, ("spread", (("x", 3, 24, 1),)))]
+['24', '96', True]
+>>> [str(spread_of(TURNS, "x", {"a": 1})), spread_paper(PAIRS, "x", {"a": 1})]
+['14/27', None]
+'''
+
+EDGES = r'''
+>>> toss = ("x", (0,))
+>>> [edge_of(PAIRS, "x", toss, branch=1) == ("upto", Fraction(1, 2)), edge_of(GROWS, "x", toss, branch=0) == ("from", Fraction(1, 2))]
+[True, True]
+>>> [edge_of(TURNS, "x", toss, branch=1), edge_of(LEAKS, "x", toss, branch=1), share_at(GROWS, toss, branch=1) == Fraction(2, 3)]
+[('all',), ('none',), True]
+>>> ring = read_program("x = {2/1: x y}\ny = [1: | 1: x]")
+>>> [edge_of(ring, "y", toss) == ("upto", Fraction(2, 5)), edge_weights(ring, "y", toss) == (("x", 1), ("y", Fraction(1, 2)))]
+[True, True]
+'''
+
+CHOICES = r'''
+>>> [fixed_by(PICKS, {("x", (0, 1, 0)): 1}) == read_program("x = [1: | 1: x x]"), len(list(all_fixed(PICKS)))]
+[True, 2]
+>>> [always_sure(PICKS, "x"), is_always_paper(PICKS, "x", ("always", ((("x", 5),),)))]
+[True, True]
+>>> bad = read_program("x = [1: | 2: <x | x x>]")
+>>> [always_paper(bad, "x")[:2], sometimes(bad, "x")]
+[('spoilt', ((('x', (0, 1, 0)), 1),)), {('x', (0, 1, 0)): 0}]
+>>> is_always_paper(bad, "x", ("spoilt", ((("x", (0, 1, 0)), 1),), (("x", Fraction(1, 2)),)))
+True
+'''
+
+STOPS = r'''
+>>> THREE = read_program("x = [1: y | 1: z]\ny = [1: | 2: y z]\nz = [1: | 2: x z]")
+>>> [least_stops(THREE, "x"), meeting_sets(THREE, "x"), least_stops(THREE, "z"), is_stop(THREE, "x", ("y", "z")), is_stop(THREE, "y", ("x",)), is_stop(THREE, "x", ("x",))]
+[(('y',), ('z',)), (('y', 'z'),), (('x',), ('y',)), True, True, False]
+>>> layers, half = ((("y", 1),), (("x", 1), ("z", 2))), Fraction(1, 2)
+>>> is_stop_paper(THREE, "x", ("stop", ("y",), layers, ((("x", half), ("y", half), ("z", half)),)))
+True
+'''
+
 
 class ExamplesTest(unittest.TestCase):
     def known(self):
         """All functions, classes and constants of the interface, and the five values that the examples use."""
         found = {}
-        for module in (fractions, rows, programs, texts, tosser, runs, values, knots, weights, sure, verdicts, bounds, means):
+        for module in (fractions, rows, programs, texts, tosser, runs, values, knots, weights, sure, verdicts, bounds, means,
+                       endless, edges, choices, stops):
             found.update({name: value for name, value in vars(module).items() if not name.startswith("_")})
         for line in VALUES.strip().split("\n"):
             exec(line.removeprefix(">>> "), found)
@@ -198,6 +243,18 @@ class ExamplesTest(unittest.TestCase):
 
     def test_means(self):
         self.run_examples(MEANS, 4)
+
+    def test_endless(self):
+        self.run_examples(ENDLESS, 4)
+
+    def test_edges(self):
+        self.run_examples(EDGES, 5)
+
+    def test_choices(self):
+        self.run_examples(CHOICES, 5)
+
+    def test_stops(self):
+        self.run_examples(STOPS, 4)
 
 
 if __name__ == "__main__":

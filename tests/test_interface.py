@@ -19,6 +19,17 @@ FUNCTIONS = {
     "papers.bounds": "between_paper(program, error); is_between_paper(program, value); bounds(program, name, error)",
     "means.means": """costs_of(program, prices); priced_of(program, name, prices); mean_of(program, name, prices);
         means_of(program, prices); finite_paper(program, name, prices); is_finite_paper(program, name, prices, value)""",
+    "means.endless": """endless_paper(program, name, prices); is_endless_paper(program, name, prices, value);
+        mean_paper(program, name, prices); is_mean_paper(program, name, prices, value);
+        spread_of(program, name, prices); spread_paper(program, name, prices);
+        is_spread_paper(program, name, prices, value)""",
+    "change.edges": """share_at(program, place, *, branch=None); calls_at(program, place, share, *, branch=None);
+        sure_at(program, name, place, share, *, branch=None); edge_of(program, name, place, *, branch=None);
+        edge_weights(program, name, place, *, branch=None)""",
+    "choices.choices": """fixed_by(free, plan); all_fixed(free); always_sure(free, name); always_paper(free, name);
+        is_always_paper(free, name, value); sometimes(free, name)""",
+    "change.stops": """stopped(program, names); is_stop(program, name, value); least_stops(program, name);
+        meeting_sets(program, name); stop_paper(program, name, names); is_stop_paper(program, name, value)""",
 }
 
 

@@ -39,36 +39,6 @@ def are_weights_of_x(value):
 NO_WEIGHTS = strange_but(are_weights_of_x) + [(("y", 1),), (("x", 1), ("y", 1)), (("x", Fraction(-1, 9)),), (("x", 0),)]
 
 
-def solved(rows, totals):
-    """The only column with these totals, by fractions of the standard library, or None."""
-    lines = [list(row) + [total] for row, total in zip(rows, totals)]
-    for at in range(len(lines)):
-        lead = next((line for line in lines[at:] if line[at] != 0), None)
-        if lead is None:
-            return None
-        lines.remove(lead)
-        lead = [entry / lead[at] for entry in lead]
-        lines = [[entry - line[at] * other for entry, other in zip(line, lead)] for line in lines]
-        lines.insert(at, lead)
-    return [line[-1] for line in lines]
-
-
-def plain_pace(bodies, knot):
-    """By other ways than the package: a falling knot has weights 1 above their loads, an even one a common factor 1."""
-    rows = [[plain.mean_calls(bodies[name], other) for other in knot] for name in knot]
-    rest = [[(at == place) - entry for place, entry in enumerate(row)] for at, row in enumerate(rows)]
-    one = fractions.Fraction(1)
-    column = solved([[one * entry for entry in row] for row in rest], [one] * len(knot))
-    if column is not None and min(column) > 0:
-        return "falling"
-    # With 1 for the first procedure, all rows but one tell the other weights of an even knot.
-    others = solved([row[1:] for row in rest[1:]], [-row[0] for row in rest[1:]]) if len(knot) > 1 else []
-    if others is not None and all(other > 0 for other in others):
-        if sum(entry * weight for entry, weight in zip(rest[0], [1] + others)) == 0:
-            return "even"
-    return "growing"
-
-
 class KnotPaperTest(unittest.TestCase):
     def setUp(self):
         self.draw = random.Random(101)
@@ -83,7 +53,7 @@ class KnotPaperTest(unittest.TestCase):
         other = "growing" if paper[0] == "steady" else "steady"
         self.assertIs(is_knot_paper(program, knot, (other, paper[1])), False)
         pace = pace_of(program, knot)
-        self.assertEqual(pace, plain_pace(bodies, knot))
+        self.assertEqual(pace, plain.pace(bodies, knot))
         self.assertEqual(paper[0] == "growing", pace == "growing")
         weights = even_weights(program, knot)
         self.assertEqual(weights is None, pace != "even")

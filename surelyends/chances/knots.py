@@ -3,7 +3,7 @@
 from surelyends.chances.tables import is_above_0
 from surelyends.errors import InvalidOperation
 from surelyends.numbers.fractions import Fraction, greatest_of, is_fraction, total_of
-from surelyends.programs.parts import bodies_in, weights_of
+from surelyends.programs.parts import bodies_by_choices, bodies_in, weights_of
 from surelyends.programs.programs import calls_of, check_closed, check_free, check_name
 
 
@@ -62,7 +62,7 @@ def mean_calls(program, name):
     """A dict from all procedures to the mean calls of them in the body of this one."""
     check_closed(program)
     check_name(program, name)
-    return {other: _calls_in(program[name], other) for other in program.names}
+    return {other: calls_in(program[name], other) for other in program.names}
 
 
 def mean_rows(program, knot):
@@ -75,10 +75,23 @@ def mean_rows(program, knot):
 
 def rows_among(program, names):
     """For each of these procedures the tuple of its mean calls of these procedures."""
-    return tuple([tuple([_calls_in(program[name], other) for other in names]) for name in names])
+    return tuple([tuple([calls_in(program[name], other) for other in names]) for name in names])
 
 
-def _calls_in(body, name):
+def rows_by_choices(free, names):
+    """A list of pairs (place, row): for the procedure at each place its rows, as in `rows_among`, for all choices."""
+    found = []
+    for place, name in enumerate(names):
+        # What is chosen in other bodies does not matter.
+        for body in bodies_by_choices(free[name]):
+            pair = (place, tuple([calls_in(body, other) for other in names]))
+            if pair not in found:
+                found.append(pair)
+    return found
+
+
+def calls_in(body, name):
+    """The mean calls of a procedure in a body."""
     return worth_of(body, {("call", name): 1})
 
 

@@ -26,15 +26,15 @@ def pace_of(program, knot):
     rows = mean_rows(program, knot)
     if _even_column(rows) is not None:
         return "even"
-    return "growing" if _steady_column(rows) is None else "falling"
+    return "growing" if steady_weights(knot, list(enumerate(rows))) is None else "falling"
 
 
 def knot_paper(program, knot):
     """A pair ("steady", weights) or ("growing", weights) of a knot."""
     rows = mean_rows(program, knot)
-    column = _steady_column(rows)
-    if column is not None:
-        return "steady", _named(knot, column)
+    weights = steady_weights(knot, list(enumerate(rows)))
+    if weights is not None:
+        return "steady", weights
     return "growing", _named(knot, _growing_column(rows))
 
 
@@ -54,6 +54,16 @@ def even_weights(program, knot):
     return None if column is None else _named(knot, column)
 
 
+def steady_weights(knot, placed_rows):
+    """Weights of a knot by which no row is worth more than the weight at its place, or None.
+
+    The rows are a list of pairs (place, row); several rows can have one place.
+    """
+    rises = tuple([_rise(place, row) for place, row in placed_rows])
+    column = _column_from_1(rises, (0,) * len(rises))
+    return None if column is None else _named(knot, column)
+
+
 def _named(knot, column):
     return tuple([(name, weight) for name, weight in zip(knot, column)])
 
@@ -68,21 +78,17 @@ def _even_column(rows):
 
 
 def _rises(rows):
-    # What each load rises above its weight, as rows.
-    return tuple([
-        tuple([entry - 1 if at == place else entry for place, entry in enumerate(row)])
-        for at, row in enumerate(rows)
-    ])
+    return tuple([_rise(at, row) for at, row in enumerate(rows)])
 
 
-def _steady_column(rows):
-    rises = _rises(rows)
-    return _column_from_1(rises, tuple([0 for _ in rows]))
+def _rise(at, row):
+    # What the load of the procedure at this place rises above its weight, as a row.
+    return tuple([entry - 1 if at == place else entry for place, entry in enumerate(row)])
 
 
 def _growing_column(rows):
     falls = tuple([tuple([-entry for entry in row]) for row in _rises(rows)])
-    return _column_from_1(falls, tuple([-1 for _ in rows]))
+    return _column_from_1(falls, (-1,) * len(falls))
 
 
 def _column_from_1(rows, totals):

@@ -5,7 +5,7 @@ from surelyends.chances.tables import is_above_0, is_at_most, is_headed, is_tabl
 from surelyends.errors import InvalidOperation
 from surelyends.numbers.fractions import total_of
 from surelyends.numbers.integers import is_between
-from surelyends.numbers.rows import falling, solution, times_of
+from surelyends.numbers.rows import falling, kept_back, solution, times_of
 from surelyends.papers.verdicts import is_sure, sure_procedures
 from surelyends.programs.programs import check_closed, check_name, is_name
 
@@ -34,7 +34,7 @@ def priced_of(program, name, prices):
 
 def mean_of(program, name, prices):
     """The mean of a sure procedure, or None if it is endless."""
-    _check(program, name, prices)
+    check_sure(program, name, prices)
     return _mean(program, name, prices)
 
 
@@ -46,7 +46,7 @@ def means_of(program, prices):
 
 
 def _mean(program, name, prices):
-    rows = _finite_rows(program, name, prices)
+    rows = finite_rows(program, name, prices)
     if rows is None:
         return None
     # A procedure that is not priced stands in no row.
@@ -55,12 +55,13 @@ def _mean(program, name, prices):
 
 def finite_paper(program, name, prices):
     """A finite paper of a sure procedure, or None if its mean is endless."""
-    _check(program, name, prices)
-    rows = _finite_rows(program, name, prices)
+    check_sure(program, name, prices)
+    rows = finite_rows(program, name, prices)
     return None if rows is None else ("finite", rows)
 
 
-def _finite_rows(program, name, prices):
+def finite_rows(program, name, prices):
+    """The rows of a finite paper of a procedure that is known to be sure, or None if its mean is endless."""
     names = priced_of(program, name, prices)
     if len(names) == 0:
         return ()
@@ -69,21 +70,13 @@ def _finite_rows(program, name, prices):
     if word == "kept":
         return None
     costs = costs_of(program, prices)
-    _, means = solution(_kept_back(rows), tuple([costs[other] for other in names]))
+    _, means = solution(kept_back(rows), tuple([costs[other] for other in names]))
     return tuple([(other, mean, weight) for other, mean, weight in zip(names, means, weights)])
-
-
-def _kept_back(rows):
-    # As rows: what is left of each mean without that of the calls.
-    return tuple([
-        tuple([1 - entry if at == place else -entry for place, entry in enumerate(row)])
-        for at, row in enumerate(rows)
-    ])
 
 
 def is_finite_paper(program, name, prices, value):
     """Whether the value is a finite paper of a sure procedure."""
-    _check(program, name, prices)
+    check_sure(program, name, prices)
     if not is_headed(value, "finite", 2) or not is_table(value[1], 2):
         return False
     names = priced_of(program, name, prices)
@@ -111,7 +104,8 @@ def _check_prices(prices):
         raise InvalidOperation("the prices are not those of events")
 
 
-def _check(program, name, prices):
+def check_sure(program, name, prices):
+    """Refuse what is no program, procedure or prices, and procedures that are not sure."""
     check_closed(program)
     check_name(program, name)
     _check_prices(prices)

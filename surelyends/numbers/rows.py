@@ -151,6 +151,14 @@ def is_falling(rows, value):
     return not all([one == 0 for one in column]) and _is_everywhere_at_most(column, _times(rows, column))
 
 
+def kept_back(rows):
+    """As many rows as their length, such that a column times them is the column less what the rows times it are."""
+    return tuple([
+        tuple([1 - entry if at == place else -entry for place, entry in enumerate(row)])
+        for at, row in enumerate(rows)
+    ])
+
+
 def _check_rows(rows):
     if not is_rows(rows):
         raise InvalidRows("no rows")

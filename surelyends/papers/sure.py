@@ -1,11 +1,11 @@
 """Sure papers: weights that show that procedures end with chance 1."""
 
-from surelyends.chances.knots import knots, reaches, worth_of
+from surelyends.chances.knots import knots, reaches, rows_by_choices, worth_of
 from surelyends.chances.tables import is_above_0, is_at_most, is_headed, is_table, names_in
-from surelyends.chances.weights import knot_paper
+from surelyends.chances.weights import steady_weights
 from surelyends.errors import InvalidOperation
 from surelyends.numbers.fractions import as_fraction
-from surelyends.programs.programs import calls_of, can_end, check_closed, check_name, is_whole
+from surelyends.programs.programs import always_able, calls_of, check_closed, check_name, is_whole
 
 
 def sure_paper(program, name):
@@ -18,14 +18,17 @@ def sure_paper(program, name):
     return "sure", layers
 
 
-def sure_layers(program, names):
-    """The layers of a sure paper with all that are sure of these procedures, which call no others."""
-    able = can_end(program)
+def sure_layers(free, names):
+    """The layers of a sure paper with all that are sure of these procedures, which call no others.
+
+    Of a program with choices: those of an always paper, with all that are sure whatever is chosen.
+    """
+    able = always_able(free)
     found = ()
-    for knot in knots(program):
-        if knot[0] in names and _may_be_layer(program, knot, able, names_of_layers(found)):
-            word, weights = knot_paper(program, knot)
-            if word == "steady":
+    for knot in knots(free):
+        if knot[0] in names and _may_be_layer(free, knot, able, names_of_layers(found)):
+            weights = steady_weights(knot, rows_by_choices(free, knot))
+            if weights is not None:
                 found = found + (weights,)
     return found
 
@@ -35,11 +38,11 @@ def names_of_layers(layers):
     return tuple(sorted([name for layer in layers for name in names_in(layer)]))
 
 
-def _may_be_layer(program, names, able, ahead):
+def _may_be_layer(free, names, able, ahead):
     # All that is asked of a layer with these procedures, but for the weights.
-    if not all([name in able and is_whole(program, name) for name in names]):
+    if not all([name in able and is_whole(free, name) for name in names]):
         return False
-    return all([other in names or other in ahead for name in names for other in calls_of(program, name)])
+    return all([other in names or other in ahead for name in names for other in calls_of(free, name)])
 
 
 def is_sure_paper(program, name, value):
@@ -53,27 +56,27 @@ def _is_paper(program, value):
     return is_headed(value, "sure", 2) and are_sure_layers(program, value[1])
 
 
-def are_sure_layers(program, value):
-    """Whether the value is the layers of a sure paper."""
+def are_sure_layers(free, value):
+    """Whether the value is the layers of a sure paper, or of an always paper of a program with choices."""
     if not isinstance(value, tuple):
         return False
-    able = can_end(program)
+    able = always_able(free)
     ahead = []
     for layer in value:
-        if not _is_layer(program, layer, able, ahead):
+        if not _is_layer(free, layer, able, ahead):
             return False
         ahead.extend(names_in(layer))
     return True
 
 
-def _is_layer(program, value, able, ahead):
+def _is_layer(free, value, able, ahead):
     if not is_table(value, 1) or len(value) == 0:
         return False
     names = names_in(value)
-    if any([name in ahead for name in names]) or not _may_be_layer(program, names, able, ahead):
+    if any([name in ahead for name in names]) or not _may_be_layer(free, names, able, ahead):
         return False
     worths = {("call", name): weight for name, weight in value}
-    return all([is_above_0(weight) and is_at_most(worth_of(program[name], worths), weight) for name, weight in value])
+    return all([is_above_0(weight) and is_at_most(worth_of(free[name], worths), weight) for name, weight in value])
 
 
 def sure_names(program, value):

@@ -80,6 +80,25 @@ def with_part(body, path, part):
     return body[:at] + (statement,) + body[at + 1:]
 
 
+def bodies_by_choices(body):
+    """A list of the bodies, without choices, of all ways to choose once and for all; some can be equal."""
+    found = [()]
+    for statement in body:
+        further = _statements_by_choices(statement)
+        found = [ahead + more for ahead in found for more in further]
+    return found
+
+
+def _statements_by_choices(statement):
+    ways = [bodies_by_choices(body) for body in bodies_in(statement)]
+    if statement[0] == "choose":
+        return [body for bodies in ways for body in bodies]
+    found = [()]
+    for bodies in ways:
+        found = [ahead + (body,) for ahead in found for body in bodies]
+    return [(with_bodies(statement, bodies),) for bodies in found]
+
+
 def with_names(body, mapping):
     """The body with other names in all its calls."""
     return tuple([_renamed(statement, mapping) for statement in body])

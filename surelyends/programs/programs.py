@@ -254,16 +254,21 @@ def is_whole(free, name):
 def can_end(program):
     """The ascending tuple of the procedures that can end."""
     check_closed(program)
+    return always_able(program)
+
+
+def always_able(free):
+    """The ascending tuple of the procedures that can end by each choice that is made once and for all."""
     able = []
-    found = _able_more(program, able)
+    found = _able_more(free, able)
     while len(found) > 0:
         able.extend(found)
-        found = _able_more(program, able)
+        found = _able_more(free, able)
     return tuple(sorted(able))
 
 
-def _able_more(program, able):
-    return [name for name in program.names if name not in able and _body_can_end(program[name], able)]
+def _able_more(free, able):
+    return [name for name in free.names if name not in able and _body_can_end(free[name], able)]
 
 
 def _body_can_end(body, able):
@@ -276,4 +281,6 @@ def _statement_can_end(statement, able):
         return statement[1] in able
     if word == "toss":
         return any([_body_can_end(body, able) for body in bodies_in(statement)])
+    if word == "choose":
+        return all([_body_can_end(body, able) for body in bodies_in(statement)])
     return word != "stay"

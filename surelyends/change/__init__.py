@@ -1,0 +1,1 @@
+"""Programs that are changed: by shares, by stops, and by rewriting."""

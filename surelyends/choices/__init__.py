@@ -1,0 +1,1 @@
+"""Programs with choices."""
