@@ -4,11 +4,13 @@ import fractions
 import math
 
 from surelyends.errors import InvalidProgram
+from surelyends.live.book import Book
 from surelyends.numbers.fractions import Fraction
 from surelyends.programs.programs import Program
 from surelyends.programs.texts import read_program
 from surelyends.runs.runs import ended_runs
 from surelyends.runs.tosser import Tosser
+from surelyends.text.shell import Shell
 
 PAIRS = read_program("x = [1: | 1: !a x x]")
 GROWS = read_program("x = [1: | 2: x x]")
@@ -39,6 +41,11 @@ STRANGE = (
     ("unsure", ()), ("unsure", (("x", 0),)), ("unsure", (("x", Fraction(1, 2)),)), ("unsure", (("x", 1),)),
     ("between", (), ()), ("between", (), (("x", 0, Fraction(1, 2)),)), ("between", ((("x", 1),),), (("x", 1, 1),)),
     ("steady", (("x", 1),)), ("growing", (("x", 1),)), ("steady", ()), ("finite", ()), ("finite", (("x", 1, 1),)),
+    ("endless", (("x", 1),)), ("endless", ()), ("spread", (("x", 1, 0, 1),)), ("spread", ()), ("upto", Fraction(1, 2)), ("all",),
+    {("x", (0, 1, 0)): 1}, ("always", ((("x", 1),),)), ("spoilt", (), (("x", Fraction(1, 2)),)), ("spoilt", ((("x", (0, 1, 0)), 1),), (("x", Fraction(1, 2)),)),
+    ("stop", (), ((("x", 1),),), ()), ("stop", ("y",), (), ()), ("finite", Fraction(1, 3)), ("unsure",), ("x", None, ("endless",)),
+    ("set", "x", ()), ("drop", "x"), ("rename", "x", "y"), ("price", "a", 1),
+    Book(), Book().trial(), Book().news(), {"x": ("endless",)}, Shell(), Shell().run_all(("names",)),
 )
 
 

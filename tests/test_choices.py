@@ -102,7 +102,7 @@ class FixedTest(unittest.TestCase):
         ]
         for value in wrong:
             raised(InvalidOperation, fixed_by, NESTED, value)
-        check_errors(fixed_by, (PICKS, NO_PROGRAMS, InvalidProgram), ({PLACE: 0}, strange_but(lambda value: False) + [{PLACE: 2}, {PLACE: False}], InvalidOperation))
+        check_errors(fixed_by, (PICKS, NO_PROGRAMS, InvalidProgram), ({PLACE: 0}, strange_but(lambda value: value == {PLACE: 1}) + [{PLACE: 2}, {PLACE: False}], InvalidOperation))
         check_errors(fixed_by, (PAIRS, NO_PROGRAMS, InvalidProgram), ({}, strange_but(lambda value: value == {}), InvalidOperation))
 
     def test_nothing_passed_is_kept(self):

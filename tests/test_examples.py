@@ -4,13 +4,15 @@ import doctest
 import unittest
 
 from surelyends.chances import knots, values, weights
-from surelyends.change import edges, stops
+from surelyends.change import edges, rewrites, stops
 from surelyends.choices import choices
+from surelyends.live import book
 from surelyends.means import endless, means
 from surelyends.numbers import fractions, rows
 from surelyends.papers import bounds, sure, verdicts
 from surelyends.programs import programs, texts
 from surelyends.runs import runs, tosser
+from surelyends.text import formats, shell
 
 VALUES = r'''
 >>> PAIRS = read_program("x = [1: | 1: !a x x]")
@@ -185,13 +187,47 @@ STOPS = r'''
 True
 '''
 
+REWRITES = r'''
+>>> [inlined(TURNS, ("x", (0, 1, 0)))["x"][0][2][1], unrolled(read_program("x = {1/2: x}"), ("x", (0,)))["x"]]
+[(('toss', (1, (('note', 'a'),)), (1, (('call', 'x'),))), ('call', 'y')), (('toss', (1, ()), (2, (('call', 'x'), ('again', 1, 2, (('call', 'x'),))))),)]
+>>> [split_off(PAIRS, ("x", (0, 1, 1)), 2, "both")["both"], turned(PAIRS, ("x", (0, 1, 0)))["x"][0][2][1], scaled(GROWS, ("x", (0,)), 3)["x"][0][2][0], dropped(LEAKS, "z").names]
+[(('call', 'x'), ('call', 'x')), (('call', 'x'), ('note', 'a'), ('call', 'x')), 6, ('z',)]
+'''
+
+BOOK = r'''
+>>> book = Book()
+>>> [book.watch("x"), book.do(("price", "a", 1), ("set", "x", PAIRS["x"])), list(book.news())]
+[1, 1, [('x', None, ('endless',))]]
+>>> body = (("toss", (2, ()), (1, (("note", "a"), ("call", "x"), ("call", "x")))),)
+>>> [book.do(("set", "x", body)), book.state("x") == ("finite", 1), book.undo(), book.state("x"), book.redo(), str(book)]
+[2, True, 1, ('endless',), 2, 'book of 1 procedures, 1 sure']
+>>> [book.do(("rename", "x", "y")), [one[0] for one in book.news()], book["y"][0][2][1][2]]
+[3, ['x'], ('call', 'y')]
+'''
+
+FORMATS = r'''
+>>> told = ("sure", ((("y", 1),), (("x", 1), ("z", Fraction(4, 2)))))
+>>> [format_paper(told), format_paper(("finite", ())), format_values({"y": Fraction(-1, 2), "x": 3}), format_fraction(Fraction(6, 4))]
+['sure: y 1 | x 1, z 2', 'finite: none', 'x 3, y -1/2', '3/2']
+>>> [parse_paper("unsure: x 1/2, y 1") == ("unsure", (("x", Fraction(1, 2)), ("y", 1))), is_shown(("sure", ((),))), parse_values("none")]
+[True, False, {}]
+'''
+
+SHELL = r'''
+>>> shell = Shell()
+>>> list(shell.run_all(("watch x", "price a 1", "set x [1: | 1: !a x x]", "set x [2: | 1: !a x x]", "show x", "state x")))
+['1', 'ok', 'x: none to endless', 'x: endless to finite 1', 'x = [2: | 1: !a x x]', 'finite 1']
+>>> [shell("set y x ~"), shell("state y"), shell("stops y"), shell("undo 2"), shell("names"), len(shell)]
+['ok', 'unsure', 'none', 'x: finite 1 to endless', 'x', 6]
+'''
+
 
 class ExamplesTest(unittest.TestCase):
     def known(self):
         """All functions, classes and constants of the interface, and the five values that the examples use."""
         found = {}
         for module in (fractions, rows, programs, texts, tosser, runs, values, knots, weights, sure, verdicts, bounds, means,
-                       endless, edges, choices, stops):
+                       endless, edges, choices, stops, rewrites, book, formats, shell):
             found.update({name: value for name, value in vars(module).items() if not name.startswith("_")})
         for line in VALUES.strip().split("\n"):
             exec(line.removeprefix(">>> "), found)
@@ -255,6 +291,18 @@ class ExamplesTest(unittest.TestCase):
 
     def test_stops(self):
         self.run_examples(STOPS, 4)
+
+    def test_rewrites(self):
+        self.run_examples(REWRITES, 2)
+
+    def test_book(self):
+        self.run_examples(BOOK, 5)
+
+    def test_formats(self):
+        self.run_examples(FORMATS, 3)
+
+    def test_shell(self):
+        self.run_examples(SHELL, 3)
 
 
 if __name__ == "__main__":

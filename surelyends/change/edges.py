@@ -13,7 +13,7 @@ from surelyends.numbers.fractions import Fraction, as_fraction, is_fraction
 from surelyends.numbers.integers import is_between
 from surelyends.numbers.rows import falling, kept_back, solution
 from surelyends.programs.parts import weights_of, with_part
-from surelyends.programs.programs import can_end, check_closed, check_name, is_whole, part_at
+from surelyends.programs.programs import can_end, check_closed, check_name, is_whole, part_at, statement_at
 
 
 def share_at(program, place, *, branch=None):
@@ -79,15 +79,12 @@ def edge_weights(program, name, place, *, branch=None):
 
 
 def _dial(program, place, branch):
-    part = part_at(program, place)
-    # Paths of bodies are of even length.
-    if len(place[1]) % 2 == 0 or part[0] not in ("toss", "again"):
-        raise InvalidOperation("neither a toss nor a repeat stands there")
-    if part[0] == "again" and branch is not None:
+    statement = statement_at(program, place, ("toss", "again"))
+    if statement[0] == "again" and branch is not None:
         raise InvalidNumber(branch)
-    if part[0] == "toss" and not is_between(branch, 0, len(part) - 2):
+    if statement[0] == "toss" and not is_between(branch, 0, len(statement) - 2):
         raise InvalidNumber(branch)
-    return part
+    return statement
 
 
 def _check_share(share):

@@ -99,12 +99,20 @@ def _statements_by_choices(statement):
     return [(with_bodies(statement, bodies),) for bodies in found]
 
 
+def with_weights(statement, weights):
+    """The toss or repeat with as many other weights."""
+    if statement[0] == "toss":
+        return ("toss",) + tuple([(weight, body) for weight, (_, body) in zip(weights, statement[1:])])
+    stop, go = weights
+    return ("again", stop, go, statement[3])
+
+
 def with_names(body, mapping):
-    """The body with other names in all its calls."""
+    """The body with other names in its calls of procedures that the dict has."""
     return tuple([_renamed(statement, mapping) for statement in body])
 
 
 def _renamed(statement, mapping):
     if statement[0] == "call":
-        return ("call", mapping[statement[1]])
+        return ("call", mapping.get(statement[1], statement[1]))
     return with_bodies(statement, tuple([with_names(body, mapping) for body in bodies_in(statement)]))

@@ -229,6 +229,15 @@ def _part_of(free, place):
     return part
 
 
+def statement_at(free, place, words):
+    """The statement at a place, which begins with one of these words."""
+    part = part_at(free, place)
+    # Paths of bodies are of even length.
+    if len(place[1]) % 2 == 0 or part[0] not in words:
+        raise InvalidOperation("no such statement stands at this place")
+    return part
+
+
 def put_at(free, place, part):
     """The program with another statement or body at a place."""
     check_free(free)

@@ -15,32 +15,9 @@ from surelyends.runs.moments import (
     stepped,
     waits_at,
 )
+from surelyends.trials import Trial
 
 MAX_STEPS = 10000
-
-
-class Kept:
-    """The moment at which a block was entered, and what was kept by the same trial before."""
-
-    def __init__(self, moment, before):
-        self.moment = moment
-        self.before = before
-
-
-class Trial:
-    """A block behind which the tosser is as ahead of it."""
-
-    def __init__(self, tosser):
-        self.tosser = tosser
-        self.kept = None
-
-    def __enter__(self):
-        self.kept = Kept(self.tosser._moment, self.kept)
-        return self.tosser
-
-    def __exit__(self, kind, value, trace):
-        self.tosser._moment = self.kept.moment
-        self.kept = self.kept.before
 
 
 class Tosser:

@@ -1,0 +1,1 @@
+"""Procedures that are edited, step by step."""

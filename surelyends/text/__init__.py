@@ -1,0 +1,1 @@
+"""Texts of papers, and a shell that is worked with by texts."""
