@@ -72,7 +72,7 @@ class FixedTest(unittest.TestCase):
                 self.assertEqual(fixed_by(free, backwards), program)
                 many += 1
             self.assertEqual([list(plan.values()) for plan, _ in found], sorted(list(plan.values()) for plan, _ in found))
-        self.assertGreater(many, 500)
+        self.assertGreater(many, 300)
 
     def test_choices_within_choices(self):
         first, inner, last, other = NESTED.choices
@@ -188,7 +188,7 @@ class AlwaysTest(unittest.TestCase):
             for many, of in self.check(drawn_free(self.draw)).values():
                 kinds.append("closed" if of == 1 else "all" if many == of else "none" if many == 0 else "some")
         for kind in ("all", "none", "some"):
-            self.assertGreater(kinds.count(kind), 50, kind)
+            self.assertGreater(kinds.count(kind), 20, kind)
 
     def test_known_programs(self):
         for text, expected in (

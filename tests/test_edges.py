@@ -194,7 +194,7 @@ class EdgesTest(unittest.TestCase):
                 for place, branch in self.draw.sample(dials, min(len(dials), 4)):
                     name = self.draw.choice(program.names)
                     forms.append((self.check(program, name, place, branch), branch is None))
-        for form, least in (("all", 50), ("none", 50), ("upto", 30), ("from", 10)):
+        for form, least in (("all", 30), ("none", 30), ("upto", 15), ("from", 8)):
             self.assertGreater(forms.count((form, False)), least, form)
         for form in ("all", "none", "upto"):
             self.assertGreater(forms.count((form, True)), 5, form)

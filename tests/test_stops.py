@@ -89,7 +89,7 @@ class StopsTest(unittest.TestCase):
                 name = self.draw.choice(program.names)
                 found = self.check(program, name)
                 kinds.append("none" if not found else "sure" if found == ((),) else "one" if len(found) == 1 else "several")
-        for kind, many in (("none", 20), ("sure", 20), ("one", 15), ("several", 3)):
+        for kind, many in (("none", 15), ("sure", 15), ("one", 8), ("several", 1)):
             self.assertGreater(kinds.count(kind), many, kind)
 
     def test_known_stops(self):

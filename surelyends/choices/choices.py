@@ -78,10 +78,15 @@ def _check_many(free):
 
 def _plans(free):
     # A list of all plans, ascending by their numbers.
-    found = [{}]
+    rows = [()]
     for place in free.choices:
-        found = [{**plan, place: number} for plan in found for number in range(_many_bodies(free, place))]
-    return found
+        many = _many_bodies(free, place)
+        rows = [row + (number,) for row in rows for number in range(many)]
+    return [_plan_of(free, row) for row in rows]
+
+
+def _plan_of(free, numbers):
+    return {place: number for place, number in zip(free.choices, numbers)}
 
 
 def always_sure(free, name):
