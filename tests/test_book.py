@@ -405,7 +405,7 @@ class BookTest(unittest.TestCase):
             ("rename", None, "y"), ("rename", "x", ["y"]), ("rename", ["x"], "y"), ["rename", "x", "y"],
             ("price", "a"), ("price", "a", 100), ("price", "a", -1), ("price", "a", True), ("price", "a", None), ("price", "a", Fraction(1)), ("price", "a", "1"),
             ("price", "A", 1), ("price", "a b", 1), ("price", None, 1), ("price", "a", 1, 1), ("price", 1, "a"), ["price", "a", 1], ("price", "a", ()),
-            ("stay",), ("cost", "a", 1), ("dropped", "x"), ("again", "x", ()), ("note", "a"), ("call", "x"), ("set", "set", "set"), (True, "x"), (Fraction(1), "x", ()), (("set",), "x", ()),
+            ("stay",), ("cost", "a", 1), ("cost", "x", 1), ("", "x", 1), ("dropped", "x"), ("again", "x", ()), ("note", "a"), ("call", "x"), ("set", "set", "set"), (True, "x"), (Fraction(1), "x", ()), (("set",), "x", ()),
         ]
         before = book.twin()
         right = (("price", "b", 3), ("set", "y", read_body("x")), ("rename", "x", "z"))
